@@ -1,0 +1,1 @@
+"""Rooms of a few places over a prime, and their flats."""
