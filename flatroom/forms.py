@@ -45,6 +45,11 @@ def form_of(prime, places, rows):
     return flat
 
 
+def first_flats(prime, places, rows):
+    """The flats of the first ones of some rows: of none, of one, and so on to all."""
+    return [form_of(prime, places, rows[:many]) for many in range(len(rows) + 1)]
+
+
 def rest_of(prime, places, flat, row):
     """What stays of a row when the flat is taken out of it: 0 at each corner."""
     # No row of a form has another number than 0 at another one's corner,

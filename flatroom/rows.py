@@ -1,6 +1,6 @@
 """Rooms and their rows: which are such, and how rows are put together."""
 
-from flatroom.errors import BadRoom
+from flatroom.errors import BadRoom, BadRow
 
 PRIMES = (2, 3, 5, 7, 11, 13, 17, 19, 23, 29, 31)
 MOST_PLACES = 6
@@ -26,6 +26,12 @@ def is_row(prime, places, told):
     return all([is_number(number) and 0 <= number < prime for number in told])
 
 
+def check_row(prime, places, told):
+    """Refuse what is no row."""
+    if not is_row(prime, places, told):
+        raise BadRow("a row must be a list of a number of the room for each place")
+
+
 def are_rows(prime, places, told, most):
     """Whether this is a list of rows of the room, no more than told."""
     # The length goes first, so that a list far too long is not read through.
@@ -38,6 +44,11 @@ def put_together(prime, places, shares, rows):
     """The rows put together place by place, each as often as its share tells."""
     pairs = list(zip(shares, rows))
     return [sum([share * row[place] for share, row in pairs]) % prime for place in range(places)]
+
+
+def makes(prime, one, other):
+    """What two rows make together."""
+    return sum([number * by for number, by in zip(one, other)]) % prime
 
 
 def inverse(prime, number):

@@ -5,6 +5,8 @@ import random
 
 PRIMES = [2, 3, 5, 7, 11, 13, 17, 19, 23, 29, 31]
 ROOMS = [(prime, places) for prime in PRIMES for places in range(1, 7)]
+NO_PRIMES = [0, 1, -1, -2, -7, 4, 6, 8, 9, 15, 21, 25, 27, 30, 32, 33, 35, 37, 41, 127, 2 ** 61 - 1, 10 ** 50]
+NO_COUNTS = [0, -1, -6, 7, 8, 10 ** 50]
 
 
 class Hostile:
@@ -44,6 +46,33 @@ def no_numbers():
     ]
 
 
+def no_rows_of_five():
+    """What is no row with two places over 5."""
+    wrong_numbers = [-1, 5, 6, -5, 10 ** 40, True, False, None, "1", "", b"1", [1], [], (1,), {}, object(), Hostile()]
+    return (
+        no_numbers()
+        + [0, 1, -3, [], [1], [1, 0, 0], [[1, 0]], holding_itself(), [1, holding_itself()]]
+        + [[odd, 0] for odd in wrong_numbers]
+        + [[1, odd] for odd in wrong_numbers]
+    )
+
+
+def no_lists():
+    """What is no list at all."""
+    return no_numbers() + [0, 1, 2, -1, 10 ** 40, "01", ((1, 0),), ([1, 0],), {0: [1, 0]}, iter([[1, 0]])]
+
+
+def no_forms_of_five():
+    """What is no form of a flat with two places over 5."""
+    return (
+        no_lists()
+        + [[odd] for odd in no_rows_of_five()]
+        + [[[1, 0], odd] for odd in no_rows_of_five()]
+        + [[[0, 0]], [[2, 0]], [[0, 4]], [[1, 0], [0, 2]], [[1, 3], [0, 1]], [[0, 1], [1, 0]], [[1, 0], [1, 0]]]
+        + [[[1, 0], [0, 0]], [[0, 0], [0, 1]], [[1, 0], [0, 1], [0, 0]], [[1, 0], [0, 1]] * 20]
+    )
+
+
 def raised(function, *told):
     """The class of what the call raises, or None if it raises nothing."""
     try:
@@ -51,6 +80,14 @@ def raised(function, *told):
     except Exception as error:
         return type(error)
     return None
+
+
+def spoil(rows):
+    """Change the list and each list within it."""
+    for row in rows:
+        row[0] = 99
+        row.append(98)
+    rows.append([97])
 
 
 def together(prime, places, shares, rows):
@@ -135,3 +172,105 @@ def some_forms():
     chance = random.Random(5)
     return [(prime, places, led, some_form(prime, places, led, chance))
             for prime, places in ROOMS for led in corner_lists(places)]
+
+
+def whole_room(places):
+    """The form of the whole room."""
+    return [[int(at == place) for at in range(places)] for place in range(places)]
+
+
+def forms_with(prime, places, led):
+    """All forms with these corners."""
+    free = [(at, place) for at, corner in enumerate(led) for place in range(corner + 1, places) if place not in led]
+    made = []
+    for numbers in itertools.product(range(prime), repeat=len(free)):
+        flat = [[int(place == corner) for place in range(places)] for corner in led]
+        for (at, place), number in zip(free, numbers):
+            flat[at][place] = number
+        made.append(flat)
+    return made
+
+
+def all_forms(prime, places):
+    """All forms of the room."""
+    return [flat for led in corner_lists(places) for flat in forms_with(prime, places, led)]
+
+
+def rows_by_form(prime, places):
+    """Pairs of each form of the room and all rows of its flat."""
+    return [(flat, frozenset(flat_of(prime, places, flat))) for flat in all_forms(prime, places)]
+
+
+def two_make(prime, one, other):
+    """What two rows make together as point 6 tells, one step after the other."""
+    made = 0
+    for number, by in zip(one, other, strict=True):
+        made = (made + number * by) % prime
+    return made
+
+
+def some_bases(seed):
+    """Rooms, each with rows whose flat is the whole room, and some pairs of lists of places to pick rows by."""
+    chance = random.Random(seed)
+    made = []
+    for prime, places in ROOMS:
+        base = mixed(prime, whole_room(places), chance)
+        for _ in range(10):
+            one, other = [chance.sample(range(places), chance.randint(0, places)) for _ in range(2)]
+            made.append((prime, places, base, one, other))
+            made.append((prime, places, base, one, one[:chance.randint(0, places)]))
+    return made
+
+
+def picked(base, places):
+    """The rows of a base at these places."""
+    return [base[place] for place in places]
+
+
+def width_of(prime, rows):
+    """The width of a flat of so many rows: how often the prime goes into their count."""
+    width = 0
+    while prime ** width < len(rows):
+        width += 1
+    return width
+
+
+def widths_by_rows(prime, places, flats):
+    """The widths of one, two or three flats as point 20 tells, by all rows of each."""
+    rows = [flat_of(prime, places, flat) for flat in flats]
+    if len(flats) == 1:
+        made = []
+    elif len(flats) == 2:
+        made = [rows[0] & rows[1]]
+    else:
+        one, two, three = rows
+        last_two = flat_of(prime, places, base_of(prime, places, flats[1:]))
+        all_three = flat_of(prime, places, base_of(prime, places, flats))
+        made = [one & two, one & three, two & three, one & two & three, one & last_two, all_three]
+    return [width_of(prime, each) for each in rows + made]
+
+
+def base_of(prime, places, flats):
+    """Rows of the flats, none of which the ones ahead of it make, so that few are left to put together."""
+    kept, made = [], {(0,) * places}
+    for row in [row for flat in flats for row in flat]:
+        if tuple(row) not in made:
+            kept.append(row)
+            made = flat_of(prime, places, kept)
+    return kept
+
+
+def all_chains(prime, places):
+    """All chains of the room."""
+    chains = [[[]]]
+    known = rows_by_form(prime, places)
+    for width in range(1, places + 1):
+        wide = [(flat, rows) for flat, rows in known if len(flat) == width]
+        chains = [chain + [flat] for chain in chains for flat, rows in wide
+                  if flat_of(prime, places, chain[-1]) <= rows]
+    return chains
+
+
+def number_lists(numbers, longest):
+    """All lists of these numbers that are no longer than told."""
+    return [list(told) for many in range(longest + 1) for told in itertools.product(numbers, repeat=many)]

@@ -8,8 +8,8 @@ import unittest
 from flatroom.errors import BadFlat, BadRoom, BadRow
 from flatroom.forms import corners, form
 from tests.helper import (
-    PRIMES, ROOMS, Hostile, all_rows, breaks_form, corner_lists, flat_of, holding_itself, mixed, no_numbers,
-    raised, some_form, some_forms, together,
+    NO_COUNTS, NO_PRIMES, PRIMES, ROOMS, all_rows, breaks_form, corner_lists, flat_of, holding_itself, mixed, no_lists,
+    no_numbers, no_rows_of_five, raised, some_form, some_forms, spoil, together,
 )
 
 
@@ -145,13 +145,6 @@ class Corners(unittest.TestCase):
 class NothingChangedOrKept(unittest.TestCase):
     ROWS = [[2, 4, 1, 0], [0, 0, 0, 0], [1, 2, 4, 3]]
 
-    def spoil(self, rows):
-        """Change the list and each list within it."""
-        for row in rows:
-            row[0] = 99
-            row.append(98)
-        rows.append([97])
-
     def test_what_is_handed_in_stays(self):
         rows = copy.deepcopy(self.ROWS)
         inner = list(rows)
@@ -167,14 +160,14 @@ class NothingChangedOrKept(unittest.TestCase):
             handed = copy.deepcopy(rows)
             told = form(5, 4, handed)
             expected = copy.deepcopy(told)
-            self.spoil(told)
+            spoil(told)
             self.assertEqual(handed, rows)
             self.assertEqual(form(5, 4, handed), expected)
 
     def test_one_row_handed_in_twice_is_told_apart(self):
         row = [1, 1, 0]
         told = form(2, 3, [row, row, [0, 0, 1]])
-        self.spoil(told)
+        spoil(told)
         self.assertEqual(row, [1, 1, 0])
         self.assertEqual(told, [[99, 1, 0, 98], [99, 0, 1, 98], [97]])
 
@@ -183,7 +176,7 @@ class NothingChangedOrKept(unittest.TestCase):
             handed = copy.deepcopy(rows)
             told = form(5, 4, handed)
             expected = copy.deepcopy(told)
-            self.spoil(handed)
+            spoil(handed)
             self.assertEqual(told, expected)
 
     def test_changing_the_corners_changes_nothing_else(self):
@@ -195,26 +188,6 @@ class NothingChangedOrKept(unittest.TestCase):
             told[0] = 9
             self.assertEqual(handed, flat)
             self.assertEqual(corners(5, 3, handed), expected)
-
-
-NO_PRIMES = [0, 1, -1, -2, -7, 4, 6, 8, 9, 15, 21, 25, 27, 30, 32, 33, 35, 37, 41, 127, 2 ** 61 - 1, 10 ** 50]
-NO_COUNTS = [0, -1, -6, 7, 8, 10 ** 50]
-
-
-def no_rows_of_five():
-    """What is no row with two places over 5."""
-    wrong_numbers = [-1, 5, 6, -5, 10 ** 40, True, False, None, "1", "", b"1", [1], [], (1,), {}, object(), Hostile()]
-    return (
-        no_numbers()
-        + [0, 1, -3, [], [1], [1, 0, 0], [[1, 0]], holding_itself(), [1, holding_itself()]]
-        + [[odd, 0] for odd in wrong_numbers]
-        + [[1, odd] for odd in wrong_numbers]
-    )
-
-
-def no_lists():
-    """What is no list at all."""
-    return no_numbers() + [0, 1, 2, -1, 10 ** 40, "01", ((1, 0),), ([1, 0],), {0: [1, 0]}, iter([[1, 0]])]
 
 
 class Refusals(unittest.TestCase):

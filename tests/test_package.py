@@ -21,8 +21,8 @@ class Package(unittest.TestCase):
 
     def test_the_modules_stand_in_the_package(self):
         names = [path.name for path in FILES]
-        for name in ("__init__.py", "errors.py", "rows.py", "forms.py"):
-            self.assertIn(name, names)
+        for name in ("__init__", "errors", "rows", "forms", "lying", "meeting", "widths", "answers"):
+            self.assertIn(name + ".py", names)
 
     def test_it_imports_only_itself(self):
         for name, tree in self.trees():
