@@ -50,6 +50,11 @@ def first_flats(prime, places, rows):
     return [form_of(prime, places, rows[:many]) for many in range(len(rows) + 1)]
 
 
+def whole_room(places):
+    """The form of the whole room."""
+    return [[int(place == corner) for place in range(places)] for corner in range(places)]
+
+
 def rest_of(prime, places, flat, row):
     """What stays of a row when the flat is taken out of it: 0 at each corner."""
     # No row of a form has another number than 0 at another one's corner,

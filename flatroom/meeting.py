@@ -29,10 +29,7 @@ def beside(prime, places, one, other):
     check_two(prime, places, one, other)
     if not is_inside(prime, places, one, other):
         raise NotInside("the first flat must lie inside the second")
-    # The corners of a flat inside are corners of the other one, too. What the other rows make is 0
-    # at all of them, as nothing in the first flat is but the row of noughts.
-    led = corners_of(one)
-    return [list(row) for row in other if corner_of(row) not in led]
+    return beside_of(one, other)
 
 
 def check_two(prime, places, one, other):
@@ -57,3 +54,11 @@ def met_of(prime, places, one, other):
 def is_inside(prime, places, one, other):
     """Whether the first of what are known to be flats lies inside the second."""
     return not any([any(rest_of(prime, places, other, row)) for row in one])
+
+
+def beside_of(one, other):
+    """What, joined with the first, is the second, and meets it in nothing, if the first is known to lie inside."""
+    # The corners of a flat inside are corners of the other one, too. What the other rows make is 0
+    # at all of them, as nothing in the first flat is but the row of noughts.
+    led = corners_of(one)
+    return [list(row) for row in other if corner_of(row) not in led]

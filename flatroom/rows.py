@@ -57,3 +57,11 @@ def inverse(prime, number):
     while found * number % prime != 1:
         found += 1
     return found
+
+
+def power(prime, many):
+    """The prime multiplied with itself, so many times."""
+    made = 1
+    for step in range(many):
+        made *= prime
+    return made

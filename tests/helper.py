@@ -274,3 +274,93 @@ def all_chains(prime, places):
 def number_lists(numbers, longest):
     """All lists of these numbers that are no longer than told."""
     return [list(told) for many in range(longest + 1) for told in itertools.product(numbers, repeat=many)]
+
+
+def all_tables(prime, places):
+    """All tables of the room, by trying all lists of as many rows as places."""
+    return [list(rows) for rows in itertools.product(all_rows(prime, places), repeat=places)
+            if len(flat_of(prime, places, list(rows))) == prime ** places]
+
+
+def some_table(prime, places, chance):
+    """A table by chance."""
+    return mixed(prime, whole_room(places), chance)
+
+
+def some_flat(prime, places, chance):
+    """A form by chance, of any width."""
+    return some_form(prime, places, sorted(chance.sample(range(places), chance.randint(0, places))), chance)
+
+
+def turned_rows(prime, places, table, rows):
+    """All these rows turned as point 18 tells, one by one."""
+    return {tuple(together(prime, places, row, table)) for row in rows}
+
+
+def ahead_of(flat):
+    """What point 15 puts flats of one width in order by: corners, then the rows one behind the other."""
+    return [first_place(row) for row in flat], [number for row in flat for number in row]
+
+
+def deep_list():
+    """A list within a list within a list, far deeper than calls can go."""
+    deep = []
+    for _ in range(100000):
+        deep = [deep]
+    return deep
+
+
+def odd_numbers():
+    """What is no whole number at all."""
+    return no_numbers() + [[], [1], [[1]], holding_itself()]
+
+
+def no_widths_of_two():
+    """What is no width with two places."""
+    return odd_numbers() + [-1, -2, -3, 3, 4, 6, 10 ** 40, -10 ** 40]
+
+
+def no_corners_of_two():
+    """What is no list of rising places with two places."""
+    wrong_places = odd_numbers() + [-1, -2, 2, 3, 10 ** 40, -10 ** 40]
+    return (
+        no_lists()
+        + [[odd] for odd in wrong_places] + [[0, odd] for odd in wrong_places] + [[odd, 1] for odd in wrong_places]
+        + [[0, 0], [1, 1], [1, 0], [0, 1, 0], [0, 1, 1], [0, 0, 1], [0, 1, 2], [-1, 0, 1], [0] * 5000]
+    )
+
+
+def no_tables_of_five():
+    """What is no table with two places over 5."""
+    wrong_rows = no_rows_of_five()
+    return (
+        no_lists() + [deep_list()]
+        + [[odd, [1, 0]] for odd in wrong_rows] + [[[0, 1], odd] for odd in wrong_rows]
+        + [[], [[1, 0]], [[0, 0], [0, 0]], [[1, 0], [0, 0]], [[1, 0], [1, 0]], [[1, 2], [3, 1]], [[2, 4], [1, 2]]]
+        + [[[1, 0], [0, 1], [0, 0]], [[1, 0], [0, 1], [1, 1]], [[1, 0], [0, 1]] * 500, [[1, 0, 0], [0, 1, 0]]]
+        + [whole_room(1), whole_room(3)]
+    )
+
+
+def no_chains_of_five():
+    """What is no chain with two places over 5."""
+    line, whole = [[1, 2]], whole_room(2)
+    odd_flats = no_forms_of_five()
+    return (
+        no_lists() + [deep_list()]
+        + [[odd, line, whole] for odd in odd_flats] + [[[], odd, whole] for odd in odd_flats]
+        + [[[], line, odd] for odd in odd_flats]
+        + [[], [[]], [whole], [line], line, whole, [[], line], [line, whole], [[], whole], [[], [], line, whole]]
+        + [[whole, line, []], [line, [], whole], [[], whole, line], [[], [], whole], [[], line, line]]
+        + [[[], line, line, whole], [[], line, whole, whole], [[], line, whole, []], [[], whole, whole]]
+        + [[[], line, whole] * 300, [[], [[1, 0, 0]], whole_room(3)], [[], [[1]]]]
+    )
+
+
+def no_flat_lists_of_five(counts):
+    """What is no list of as many flats with two places over 5 as one of the counts."""
+    line = [[1, 2]]
+    wrong_counts = [[line] * many for many in range(8) if many not in counts] + [[[]] * 1000]
+    wrong_flats = [[line] * at + [odd] + [line] * (many - at - 1)
+                   for many in counts for at in range(many) for odd in no_forms_of_five()]
+    return no_lists() + [line, deep_list()] + wrong_counts + wrong_flats

@@ -21,8 +21,8 @@ class Package(unittest.TestCase):
 
     def test_the_modules_stand_in_the_package(self):
         names = [path.name for path in FILES]
-        for name in ("__init__", "errors", "rows", "forms", "lying", "meeting", "widths", "answers"):
-            self.assertIn(name + ".py", names)
+        told = "__init__ errors forms lying meeting counting tables turning chains answers rows widths crossing bases"
+        self.assertEqual(sorted(names), sorted(name + ".py" for name in told.split()))
 
     def test_it_imports_only_itself(self):
         for name, tree in self.trees():
@@ -36,6 +36,19 @@ class Package(unittest.TestCase):
         for name, tree in self.trees():
             used = {node.id for node in ast.walk(tree) if isinstance(node, ast.Name)}
             self.assertEqual({word for word in used if hasattr(builtins, word)} - ALLOWED, set(), name)
+
+    def test_it_raises_to_no_power_by_a_sign(self):
+        for name, tree in self.trees():
+            self.assertFalse([node for node in ast.walk(tree) if isinstance(node, ast.Pow)], name)
+
+    def test_it_keeps_nothing_between_calls(self):
+        # What stands at the top of a file is numbers, and tuples of numbers, which nothing can change.
+        for name, tree in self.trees():
+            for node in tree.body:
+                self.assertIsInstance(node, (ast.Expr, ast.ImportFrom, ast.FunctionDef, ast.ClassDef, ast.Assign), name)
+                if isinstance(node, ast.Assign):
+                    kinds = {type(part) for part in ast.walk(node.value)}
+                    self.assertLessEqual(kinds, {ast.Constant, ast.Tuple, ast.Load}, name)
 
     def test_it_keeps_its_sizes(self):
         for path in FILES:
